@@ -1,0 +1,1 @@
+"""Fewforests: webs laid in the fewest forests."""
