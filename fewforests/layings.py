@@ -21,6 +21,11 @@ def ring_of(web, laying, tie, forest):
     return ring_between(hung_forest(web, numbers), a, b)
 
 
+def laid_count(laying):
+    """How many ties are laid."""
+    return sum(1 for entry in laying if entry is not None)
+
+
 def ties_by_forest(laying):
     """The rising numbers of the ties of each forest that has some."""
     forests = {}

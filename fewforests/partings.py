@@ -1,6 +1,6 @@
 """Partings: each point is in one part, the parts numbered by their least points."""
 
-from fewforests.common import is_number
+from fewforests.common import is_number, join_points, leader_of
 from fewforests.errors import TooGreat
 
 MOST_POINTS_FOR_ALL = 7
@@ -33,3 +33,21 @@ def all_partings(web):
         # Each goes on with the parts it has and with one new part: so the order stays that of tuples.
         partings = [parting + (part,) for parting in partings for part in range(max(parting) + 2)]
     return partings
+
+
+def parts_of(parting):
+    """How many parts there are."""
+    return max(parting) + 1
+
+
+def parting_around(web, lots):
+    """The parting with the most parts in which each of these lots is within one part."""
+    leaders = list(range(web[0]))
+    for lot in lots:
+        for point in lot:
+            join_points(leaders, lot[0], point)
+    parts = {}
+    parting = []
+    for point in range(web[0]):
+        parting.append(parts.setdefault(leader_of(leaders, point), len(parts)))
+    return tuple(parting)

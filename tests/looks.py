@@ -102,6 +102,70 @@ def ring(web, laying, tie, forest):
     return None
 
 
+def own_rings(web, k, laying):
+    """The rings, None where free, of each tie in each forest in which it does not lie."""
+    pairs = [(tie, forest) for tie in range(len(web[1])) for forest in range(k) if laying[tie] != forest]
+    return {pair: ring(web, laying, *pair) for pair in pairs}
+
+
+def pushed(laying, row):
+    places = dict(row)
+    return tuple(places.get(number, entry) for number, entry in enumerate(laying))
+
+
+def is_row(web, k, laying, tie, thing, rings):
+    if type(thing) is not tuple or not thing:
+        return False
+    for entry in thing:
+        if type(entry) is not tuple or len(entry) != 2 or not all(is_int(part) for part in entry):
+            return False
+        if entry not in rings:
+            return False
+    if thing[0][0] != tie or len(dict(thing)) != len(thing) or rings[thing[-1]] is not None:
+        return False
+    for ahead, entry in zip(thing, thing[1:]):
+        if rings[ahead] is None or entry[0] not in rings[ahead]:
+            return False
+    return is_laying(web, k, pushed(laying, thing))
+
+
+def is_levels(web, laying, tie, n, thing, rings):
+    if type(thing) is not tuple or len(thing) != len(web[1]):
+        return False
+    if not all(is_int(level) and 0 <= level <= 121 for level in thing) or thing[tie] != 0:
+        return False
+    for (pusher, forest), around in rings.items():
+        if pusher == tie or laying[pusher] is not None:
+            if around is None and thing[pusher] < n - 1:
+                return False
+            if around is not None and any(thing[other] > thing[pusher] + 1 for other in around):
+                return False
+    return True
+
+
+def push_counts(tie, rings):
+    """For each tie that pushes lead to, the fewest that do; and the least entries of a row, None where none is."""
+    counts, front, shortest = {tie: 0}, [tie], None
+    while front:
+        behind = []
+        for (pusher, forest), around in rings.items():
+            if pusher in front:
+                if around is None:
+                    shortest = min(shortest or 999, counts[pusher] + 1)
+                else:
+                    behind += [other for other in around if other not in counts]
+        counts.update({other: counts[front[0]] + 1 for other in behind})
+        front = sorted(set(behind))
+    return counts, shortest
+
+
+def strip(points, order):
+    """A strip of triangles, its ties in a drawn order, and last a tie that doubles its first: two forests do."""
+    chance = random.Random(order)
+    ties = [(at, at + 1) for at in range(points - 1)] + [(at, at + 2) for at in range(points - 2)]
+    return (points, tuple(chance.sample(ties, len(ties))) + ((0, 1),))
+
+
 def chance_web(chance, points, ties):
     """A web with so many ties, drawn by a generator with a told seed."""
     if points == 1:
@@ -114,12 +178,12 @@ def chance_webs(seed, many, points=6, ties=10):
     return [chance_web(chance, chance.randint(1, points), chance.randint(0, ties)) for web in range(many)]
 
 
-def chance_laying(chance, web, k):
+def chance_laying(chance, web, k, share=0.9):
     """Ties in turned order, each in any forest that is free for it, or left out by chance."""
     laying = [None] * len(web[1])
     for number in chance.sample(range(len(laying)), len(laying)):
         free = [f for f in range(k) if is_forest(web, sorted(lying(laying, f) + [number]))]
-        if free and chance.random() < 0.9:
+        if free and chance.random() < share:
             laying[number] = chance.choice(free)
     return tuple(laying)
 

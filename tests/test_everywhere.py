@@ -5,7 +5,7 @@ import inspect
 import random
 import unittest
 
-from fewforests import layings, lots, partings, webs
+from fewforests import bounds, fewest, layings, lots, partings, plain, pushing, rows, webs
 from tests import looks
 
 INTERFACE = {
@@ -19,6 +19,18 @@ INTERFACE = {
     layings.right_laying: ["web", "k", "thing"],
     layings.ring_of: ["web", "laying", "tie", "forest"],
     lots.right_full: ["web", "k", "thing"],
+    plain.first_fit: ["web", "k"],
+    rows.right_row: ["web", "k", "laying", "tie", "thing"],
+    rows.pushed_laying: ["laying", "row"],
+    rows.right_levels: ["web", "k", "laying", "tie", "n", "thing"],
+    pushing.push_tie: ["web", "k", "laying", "tie"],
+    bounds.bound_of: ["web", "k", "parting"],
+    bounds.least_bound: ["web", "k"],
+    bounds.right_fill: ["web", "k", "thing"],
+    bounds.right_needed: ["web", "k", "thing"],
+    fewest.fill_forests: ["web", "k"],
+    fewest.lay_all: ["web", "k"],
+    fewest.fewest_forests: ["web"],
 }
 
 
@@ -51,6 +63,10 @@ class Everywhere(unittest.TestCase):
                 self.twice(partings.is_parting, web, whole)
                 self.twice(layings.right_laying, web, 2, whole)
                 self.twice(lots.right_full, web, 1, whole)
+                self.twice(rows.right_row, web, 2, (0, None, 0), 1, whole)
+                self.twice(rows.right_levels, web, 2, (0, None, 0), 1, 1, whole)
+                self.twice(bounds.right_fill, web, 1, whole)
+                self.twice(bounds.right_needed, web, 1, whole)
 
     def test_the_same_question_is_answered_equally_again(self):
         chance = random.Random(2)
@@ -66,12 +82,39 @@ class Everywhere(unittest.TestCase):
             for tie in range(len(web[1])):
                 if laying[tie] != 1:
                     self.twice(layings.ring_of, web, laying, tie, 1)
+                if laying[tie] is None:
+                    self.twice(pushing.push_tie, web, 2, laying, tie)
+                    self.twice(rows.pushed_laying, laying, ((tie, 0),))
+            for k in (0, 1, 2, 120):
+                self.twice(plain.first_fit, web, k)
+                self.twice(bounds.bound_of, web, k, tuple(points))
+                self.twice(bounds.least_bound, web, k)
+                self.twice(fewest.fill_forests, web, k)
+                self.twice(fewest.lay_all, web, k)
+            self.twice(fewest.fewest_forests, web)
 
     def test_numbers_somewhat_beyond_the_bounds_raise_nothing(self):
         web = (2, ((0, 1),) * 2)
         for k in (-2, -1, 121, 130):
             layings.right_laying(web, k, (0, 1))
             lots.right_full(web, k, (0, 1))
+            plain.first_fit(web, k)
+            rows.right_row(web, k, (None, None), 0, ((0, 0),))
+            rows.right_levels(web, k, (None, None), 0, 1, (0, 0))
+            pushing.push_tie(web, k, (None, None), 0)
+            bounds.bound_of(web, k, (0, 1))
+            bounds.least_bound(web, k)
+            bounds.right_fill(web, k, ((0, None), (0, 0)))
+            bounds.right_needed(web, k, ((0, None), (0, 0), ((None, 0), (0, None))))
+            fewest.fill_forests(web, k)
+            fewest.lay_all(web, k)
+        for n in (-1, 0, 122, 130):
+            rows.right_levels(web, 1, (0, None), 1, n, (1, 0))
+        for greater in ((42, ((0, 41),) * 3), (2, ((0, 1),) * 125)):
+            webs.pieces_of(greater)
+            fewest.fill_forests(greater, 2)
+            fewest.lay_all(greater, 125)
+            fewest.fewest_forests(greater)
 
 
 if __name__ == "__main__":
