@@ -6,7 +6,7 @@ from fewforests.layings import hung_forest, ring_between, ties_by_forest
 def push_tie(web, k, laying, tie):
     """("laid", row, levels) for a left-out tie, or ("full", lot)."""
     pushers = {tie: None}
-    last = first_free(web, k, laying, tie, pushers)
+    last = first_free(web, k, laying, pushers)
     if last is None:
         # Each forest joins what the reached ties join by reached ties alone: so it is a tree on their ends.
         return ("full", ends_of(web, list(pushers)))
@@ -14,14 +14,15 @@ def push_tie(web, k, laying, tie):
     return ("laid", row, levels_of(web, pushers, len(row)))
 
 
-def first_free(web, k, laying, tie, pushers):
+def first_free(web, k, laying, pushers):
     """Goes from push to push, near ties first, to the first tie that is free: it and the forest, None if none is.
 
-    Notes in pushers, for each tie that is reached, the tie that pushes it and in which forest.
+    Begins with the left-out ties in pushers, and notes there, for each tie that is reached, the tie that pushes it
+    and in which forest.
     """
     numbers = ties_by_forest(laying)
     hung = {}
-    waiting = [tie]
+    waiting = list(pushers)
     at = 0
     while at < len(waiting):
         pusher = waiting[at]

@@ -1,6 +1,7 @@
 """The tests' own looks at webs, written apart from the program, and the things they are tried on."""
 
 import random
+from itertools import combinations, product
 
 
 def is_int(thing):
@@ -38,8 +39,14 @@ def has_ring(web, numbers):
 
 
 def is_forest(web, numbers):
-    """The same, counted: a forest has as many ties as points, less its trees."""
-    return len(numbers) == web[0] - len(set(joined(web, numbers)))
+    """The same, painted: no tie comes between two points that have one colour already."""
+    colours = list(range(web[0]))
+    for number in numbers:
+        one, other = (colours[end] for end in web[1][number])
+        if one == other:
+            return False
+        colours = [one if colour == other else colour for colour in colours]
+    return True
 
 
 def within(web, lot):
@@ -81,6 +88,101 @@ def is_laying(web, k, thing):
     if not all(entry is None or is_int(entry) and 0 <= entry < k for entry in thing):
         return False
     return all(is_forest(web, lying(thing, forest)) for forest in set(thing) - {None})
+
+
+def is_fill(web, k, thing):
+    if type(thing) is not tuple or len(thing) != 2:
+        return False
+    if not is_laying(web, k, thing[0]) or not is_parting(web, thing[1]):
+        return False
+    return laid(thing[0]) == bound(web, k, thing[1])
+
+
+def is_needed(web, k, thing):
+    if type(thing) is not tuple or len(thing) != 3 or not is_fill(web, k, thing[:2]):
+        return False
+    laying, parting, others = thing
+    if type(others) is not tuple or len(others) != len(web[1]):
+        return False
+    for (a, b), tie, other in zip(web[1], range(len(others)), others):
+        if parting[a] != parting[b]:
+            right = other is None
+        else:
+            right = is_laying(web, k, other) and other[tie] is None and laid(other) == laid(laying)
+        if not right:
+            return False
+    return True
+
+
+def fullest(web, k):
+    """All layings with the most ties laid, of a small web."""
+    layings = [thing for thing in product([None] + list(range(k)), repeat=len(web[1])) if is_laying(web, k, thing)]
+    most = max(laid(laying) for laying in layings)
+    return [laying for laying in layings if laid(laying) == most]
+
+
+def all_lots(web):
+    return [lot for size in range(1, web[0] + 1) for lot in combinations(range(web[0]), size)]
+
+
+def layable(web, k):
+    """All sets of ties, told by bits, of which no lot is full for k, of a small web: just these can be laid."""
+    rooms = {}
+    for lot in all_lots(web):
+        inside = sum(1 << number for number, tie in enumerate(web[1]) if set(tie) <= set(lot))
+        rooms[inside] = min(rooms.get(inside, 999), k * (len(lot) - 1))
+    return [bits for bits in range(1 << len(web[1]))
+            if all((bits & inside).bit_count() <= room for inside, room in rooms.items())]
+
+
+def has_tie(bits, tie):
+    return bits >> tie & 1 == 1
+
+
+def by_price(prices):
+    """The ties' numbers in the order of cheapness."""
+    return sorted(range(len(prices)), key=lambda tie: (prices[tie], tie))
+
+
+def is_tight(web, k, laying, lot, numbers):
+    """Forest by forest, in the document's words."""
+    for forest in range(k):
+        inside = [number for number in lying(laying, forest) if number in numbers and set(web[1][number]) <= set(lot)]
+        if len(inside) != len(lot) - 1:
+            return False
+    return True
+
+
+def is_cheapest(web, k, prices, thing):
+    if type(thing) is not tuple or len(thing) != 2 or not is_laying(web, k, thing[0]):
+        return False
+    laying, reasons = thing
+    if type(reasons) is not tuple or len(reasons) != len(web[1]):
+        return False
+    order = by_price(prices)
+    for tie, reason in enumerate(reasons):
+        if laying[tie] is not None:
+            right = reason is None
+        else:
+            right = is_lot(web, reason) and set(web[1][tie]) <= set(reason)
+            right = right and is_tight(web, k, laying, reason, order[:order.index(tie)])
+        if not right:
+            return False
+    return True
+
+
+def cheapest_set(web, k, prices):
+    """The ties of a small web that are taken one by one in the order of cheapness where they can be laid, as bits."""
+    sets = set(layable(web, k))
+    bits = 0
+    for tie in by_price(prices):
+        if bits | 1 << tie in sets:
+            bits |= 1 << tie
+    return bits
+
+
+def chance_prices(chance, web, most):
+    return tuple(chance.randint(0, most) for tie in web[1])
 
 
 def lying(laying, forest):

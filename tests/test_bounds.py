@@ -11,40 +11,9 @@ from fewforests.partings import all_partings
 from tests import looks
 
 
-def own_fill(web, k, thing):
-    if type(thing) is not tuple or len(thing) != 2:
-        return False
-    if not looks.is_laying(web, k, thing[0]) or not looks.is_parting(web, thing[1]):
-        return False
-    return looks.laid(thing[0]) == looks.bound(web, k, thing[1])
-
-
-def own_needed(web, k, thing):
-    if type(thing) is not tuple or len(thing) != 3 or not own_fill(web, k, thing[:2]):
-        return False
-    laying, parting, others = thing
-    if type(others) is not tuple or len(others) != len(web[1]):
-        return False
-    for (a, b), tie, other in zip(web[1], range(len(others)), others):
-        if parting[a] != parting[b]:
-            right = other is None
-        else:
-            right = looks.is_laying(web, k, other) and other[tie] is None and looks.laid(other) == looks.laid(laying)
-        if not right:
-            return False
-    return True
-
-
-def fullest(web, k):
-    """All layings with the most ties laid, of a small web."""
-    layings = [thing for thing in product([None] + list(range(k)), repeat=len(web[1])) if looks.is_laying(web, k, thing)]
-    most = max(looks.laid(laying) for laying in layings)
-    return [laying for laying in layings if looks.laid(laying) == most]
-
-
 def needed_things(web, k):
     """What right_needed is to let by of a small web, found by looking at all layings and partings."""
-    layings = fullest(web, k)
+    layings = looks.fullest(web, k)
     leaving = [next((one for one in layings if one[tie] is None), None) for tie in range(len(web[1]))]
     for parting in all_partings(web):
         if looks.bound(web, k, parting) == looks.laid(layings[0]):
@@ -74,7 +43,7 @@ class Bounds(unittest.TestCase):
     def test_no_laying_has_more_ties_laid(self):
         for web in looks.chance_webs(141, 20, 4, 5):
             for k in range(3):
-                for laying in fullest(web, k):
+                for laying in looks.fullest(web, k):
                     for parting in all_partings(web):
                         self.assertLessEqual(looks.laid(laying), bound_of(web, k, parting))
 
@@ -87,7 +56,7 @@ class Bounds(unittest.TestCase):
     def test_least_bound_is_met_by_the_fullest(self):
         for web in looks.chance_webs(143, 20, 4, 5):
             for k in range(3):
-                self.assertEqual(least_bound(web, k), looks.laid(fullest(web, k)[0]))
+                self.assertEqual(least_bound(web, k), looks.laid(looks.fullest(web, k)[0]))
 
     def test_least_bound_refuses_from_eight_points_on(self):
         for points in range(8, 41):
@@ -98,7 +67,7 @@ class Bounds(unittest.TestCase):
 class RightFill(unittest.TestCase):
 
     def same(self, web, k, thing):
-        self.assertIs(right_fill(web, k, thing), own_fill(web, k, thing), (web, k, thing))
+        self.assertIs(right_fill(web, k, thing), looks.is_fill(web, k, thing), (web, k, thing))
 
     def test_all_layings_and_partings_of_small_webs(self):
         right = 0
@@ -129,7 +98,7 @@ class RightFill(unittest.TestCase):
 class RightNeeded(unittest.TestCase):
 
     def same(self, web, k, thing):
-        self.assertIs(right_needed(web, k, thing), own_needed(web, k, thing), (web, k, thing))
+        self.assertIs(right_needed(web, k, thing), looks.is_needed(web, k, thing), (web, k, thing))
 
     def test_what_is_so_is_let_by_and_what_is_bent_is_not(self):
         right = wrong = 0

@@ -5,7 +5,8 @@ import inspect
 import random
 import unittest
 
-from fewforests import bounds, fewest, layings, lots, partings, plain, pushing, rows, webs
+from fewforests import bounds, fewest, layings, lots, made, needed, partings, plain, prices, pushing, rows, standing
+from fewforests import trees, webs
 from tests import looks
 
 INTERFACE = {
@@ -31,6 +32,18 @@ INTERFACE = {
     fewest.fill_forests: ["web", "k"],
     fewest.lay_all: ["web", "k"],
     fewest.fewest_forests: ["web"],
+    needed.needed_ties: ["web", "k"],
+    trees.right_trees: ["web", "k", "thing"],
+    trees.right_thin: ["web", "k", "thing"],
+    standing.most_trees: ["web"],
+    prices.right_cheapest: ["web", "k", "prices", "thing"],
+    made.renamed_web: ["web", "names", "order"],
+    made.led_laying: ["laying", "order"],
+    made.webs_beside: ["one", "other"],
+    made.doubled_web: ["web"],
+    made.copies_of: ["web", "c"],
+    made.with_tie: ["web", "a", "b"],
+    made.without_tie: ["web", "tie"],
 }
 
 
@@ -67,6 +80,9 @@ class Everywhere(unittest.TestCase):
                 self.twice(rows.right_levels, web, 2, (0, None, 0), 1, 1, whole)
                 self.twice(bounds.right_fill, web, 1, whole)
                 self.twice(bounds.right_needed, web, 1, whole)
+                self.twice(trees.right_trees, web, 1, whole)
+                self.twice(trees.right_thin, web, 1, whole)
+                self.twice(prices.right_cheapest, web, 1, (0, 0, 0), whole)
 
     def test_the_same_question_is_answered_equally_again(self):
         chance = random.Random(2)
@@ -91,7 +107,18 @@ class Everywhere(unittest.TestCase):
                 self.twice(bounds.least_bound, web, k)
                 self.twice(fewest.fill_forests, web, k)
                 self.twice(fewest.lay_all, web, k)
+                self.twice(needed.needed_ties, web, k)
             self.twice(fewest.fewest_forests, web)
+            self.twice(standing.most_trees, web)
+            self.twice(made.webs_beside, web, web)
+            self.twice(made.doubled_web, web)
+            self.twice(made.copies_of, web, 3)
+            if web[1]:
+                self.twice(made.with_tie, web, 1, 0)
+                self.twice(made.without_tie, web, 0)
+            order = tuple(range(len(web[1])))[::-1]
+            self.twice(made.renamed_web, web, tuple(points)[::-1], order)
+            self.twice(made.led_laying, laying, order)
 
     def test_numbers_somewhat_beyond_the_bounds_raise_nothing(self):
         web = (2, ((0, 1),) * 2)
@@ -108,6 +135,11 @@ class Everywhere(unittest.TestCase):
             bounds.right_needed(web, k, ((0, None), (0, 0), ((None, 0), (0, None))))
             fewest.fill_forests(web, k)
             fewest.lay_all(web, k)
+            needed.needed_ties(web, k)
+            trees.right_trees(web, k, (0, None))
+            trees.right_thin(web, k, (0, 1))
+            prices.right_cheapest(web, k, (0, 10 ** 9 + 1), ((0, None), (None, (0, 1))))
+        made.copies_of(web, 0)
         for n in (-1, 0, 122, 130):
             rows.right_levels(web, 1, (0, None), 1, n, (1, 0))
         for greater in ((42, ((0, 41),) * 3), (2, ((0, 1),) * 125)):
@@ -115,6 +147,8 @@ class Everywhere(unittest.TestCase):
             fewest.fill_forests(greater, 2)
             fewest.lay_all(greater, 125)
             fewest.fewest_forests(greater)
+            needed.needed_ties(greater, 2)
+            standing.most_trees(greater)
 
 
 if __name__ == "__main__":
