@@ -8,16 +8,22 @@ from fewforests.webs import ties_within
 
 def fill_forests(web, k):
     """(laying, parting): as many ties laid in k forests as can be, and a parting whose bound they meet."""
+    laying, lots = fill_in_order(web, k, list(range(len(web[1]))))
+    return (laying, parting_around(web, [lot for lot in lots if lot is not None]))
+
+
+def fill_in_order(web, k, order):
+    """(laying, lots): ties laid one after another in this order, and for each left-out one a lot without room."""
     laying = nothing_laid(web)
-    lots = []
-    for tie in range(len(web[1])):
+    lots = [None] * len(web[1])
+    for tie in order:
         told = push_tie(web, k, laying, tie)
         if told[0] == "laid":
             laying = pushed_laying(laying, told[1])
         else:
             # What is laid is never left out again, so the lot stays as full as it is now.
-            lots.append(told[1])
-    return (laying, parting_around(web, lots))
+            lots[tie] = told[1]
+    return (laying, tuple(lots))
 
 
 def lay_all(web, k):

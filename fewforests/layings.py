@@ -35,8 +35,11 @@ def ties_by_forest(laying):
     return forests
 
 
-def hung_forest(web, numbers):
-    """For each point (top, depth, point above, tie to it), each tree of a forest hung from its least point."""
+def hung_forest(web, numbers, root=0):
+    """For each point (top, depth, point above, tie to it).
+
+    Each tree of a forest hangs from the root where it holds it, else from its least point.
+    """
     points, ties = web
     steps = [[] for point in range(points)]
     for number in numbers:
@@ -44,7 +47,7 @@ def hung_forest(web, numbers):
         steps[a].append((b, number))
         steps[b].append((a, number))
     hung = [None] * points
-    for top in range(points):
+    for top in [root] + list(range(points)):
         if hung[top] is None:
             hang_tree(steps, hung, top)
     return hung

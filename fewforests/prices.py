@@ -28,8 +28,13 @@ def is_reason(web, k, prices, laying, tie, thing):
 
 
 def is_cheaper(prices, one, other):
-    """Whether one tie is cheaper than another: by its price, then by its number."""
-    return (prices[one], one) < (prices[other], other)
+    """Whether one tie is cheaper than another."""
+    return cheapness(prices, one) < cheapness(prices, other)
+
+
+def cheapness(prices, tie):
+    """What decides which of two ties is cheaper: the price, then the number."""
+    return (prices[tie], tie)
 
 
 def is_tight_by(web, k, laying, lot, numbers):

@@ -181,6 +181,20 @@ def cheapest_set(web, k, prices):
     return bits
 
 
+def is_ways(web, thing):
+    if type(thing) is not tuple or len(thing) != len(web[1]):
+        return False
+    return all(is_int(point) and point in tie for point, tie in zip(thing, web[1]))
+
+
+def outs(web, ways):
+    return [ways.count(point) for point in range(web[0])]
+
+
+def chance_ways(chance, web):
+    return tuple(chance.choice(tie) for tie in web[1])
+
+
 def chance_prices(chance, web, most):
     return tuple(chance.randint(0, most) for tie in web[1])
 

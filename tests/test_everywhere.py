@@ -5,8 +5,8 @@ import inspect
 import random
 import unittest
 
-from fewforests import bounds, fewest, layings, lots, made, needed, partings, plain, prices, pushing, rows, standing
-from fewforests import trees, webs
+from fewforests import bounds, cheapest, fewest, layers, layings, lots, made, needed, outward, partings, plain, prices
+from fewforests import pushing, rows, shares, standing, trees, ways, webs
 from tests import looks
 
 INTERFACE = {
@@ -44,6 +44,18 @@ INTERFACE = {
     made.copies_of: ["web", "c"],
     made.with_tie: ["web", "a", "b"],
     made.without_tie: ["web", "tie"],
+    cheapest.cheapest_ties: ["web", "k", "prices"],
+    cheapest.stand_ins: ["web", "k", "prices"],
+    ways.right_ways: ["web", "d", "thing"],
+    ways.right_crowded: ["web", "d", "thing"],
+    ways.outs_of: ["web", "ways"],
+    outward.fewest_outs: ["web"],
+    outward.rooted_ways: ["web", "k", "laying", "root"],
+    layers.right_layers: ["web", "d", "thing"],
+    layers.layers_of: ["web", "ways"],
+    layers.split_layers: ["web", "d", "layers"],
+    shares.excess_above: ["web", "ways", "q"],
+    shares.right_even: ["web", "root", "thing"],
 }
 
 
@@ -83,6 +95,11 @@ class Everywhere(unittest.TestCase):
                 self.twice(trees.right_trees, web, 1, whole)
                 self.twice(trees.right_thin, web, 1, whole)
                 self.twice(prices.right_cheapest, web, 1, (0, 0, 0), whole)
+                self.twice(ways.right_ways, web, 2, whole)
+                self.twice(ways.right_crowded, web, 0, whole)
+                self.twice(layers.right_layers, web, 2, whole)
+                self.twice(shares.right_even, web, None, whole)
+                self.twice(shares.right_even, web, 2, whole)
 
     def test_the_same_question_is_answered_equally_again(self):
         chance = random.Random(2)
@@ -108,6 +125,8 @@ class Everywhere(unittest.TestCase):
                 self.twice(fewest.fill_forests, web, k)
                 self.twice(fewest.lay_all, web, k)
                 self.twice(needed.needed_ties, web, k)
+                self.twice(cheapest.cheapest_ties, web, k, looks.chance_prices(chance, web, 3))
+                self.twice(cheapest.stand_ins, web, k, looks.chance_prices(chance, web, 3))
             self.twice(fewest.fewest_forests, web)
             self.twice(standing.most_trees, web)
             self.twice(made.webs_beside, web, web)
@@ -119,6 +138,17 @@ class Everywhere(unittest.TestCase):
             order = tuple(range(len(web[1])))[::-1]
             self.twice(made.renamed_web, web, tuple(points)[::-1], order)
             self.twice(made.led_laying, laying, order)
+            self.outs_twice(web)
+
+    def outs_twice(self, web):
+        self.twice(outward.fewest_outs, web)
+        d, told, lot = outward.fewest_outs(web)
+        self.twice(ways.outs_of, web, told)
+        self.twice(layers.layers_of, web, told)
+        self.twice(layers.split_layers, web, d, layers.layers_of(web, told))
+        self.twice(shares.excess_above, web, told, 1)
+        k, laying, lot = fewest.fewest_forests(web)
+        self.twice(outward.rooted_ways, web, k, laying, web[0] - 1)
 
     def test_numbers_somewhat_beyond_the_bounds_raise_nothing(self):
         web = (2, ((0, 1),) * 2)
@@ -139,9 +169,17 @@ class Everywhere(unittest.TestCase):
             trees.right_trees(web, k, (0, None))
             trees.right_thin(web, k, (0, 1))
             prices.right_cheapest(web, k, (0, 10 ** 9 + 1), ((0, None), (None, (0, 1))))
+            cheapest.cheapest_ties(web, k, (0, 10 ** 9 + 1))
+            cheapest.stand_ins(web, k, (-1, 5))
+            ways.right_ways(web, k, (0, 1))
+            ways.right_crowded(web, k, (0, 1))
+            layers.right_layers(web, k, (0, 0))
+            outward.rooted_ways(web, k, (0, 1), 1)
+            shares.excess_above(web, (0, 1), k)
         made.copies_of(web, 0)
         for n in (-1, 0, 122, 130):
             rows.right_levels(web, 1, (0, None), 1, n, (1, 0))
+        layers.split_layers(web, 61, (60, 60))
         for greater in ((42, ((0, 41),) * 3), (2, ((0, 1),) * 125)):
             webs.pieces_of(greater)
             fewest.fill_forests(greater, 2)
@@ -149,6 +187,8 @@ class Everywhere(unittest.TestCase):
             fewest.fewest_forests(greater)
             needed.needed_ties(greater, 2)
             standing.most_trees(greater)
+            outward.fewest_outs(greater)
+            cheapest.cheapest_ties(greater, 2, (1,) * len(greater[1]))
 
 
 if __name__ == "__main__":

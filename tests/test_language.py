@@ -144,6 +144,20 @@ class Language(unittest.TestCase):
                 if isinstance(sign, (ast.Is, ast.IsNot)):
                     self.assertTrue(isinstance(right, ast.Constant) and right.value in (None, True, False), path)
 
+    def test_ranges_and_their_kin_are_iterated_at_once(self):
+        takers = "list tuple dict sorted sum any all enumerate zip min max len reversed".split()
+        for path, tree in trees():
+            taken = []
+            for node in ast.walk(tree):
+                if isinstance(node, (ast.For, ast.comprehension)):
+                    taken.append(node.iter)
+                if isinstance(node, ast.Call) and isinstance(node.func, ast.Name) and node.func.id in takers:
+                    taken += node.args if node.func.id == "zip" else node.args[:1]
+            for node in ast.walk(tree):
+                if isinstance(node, ast.Call) and isinstance(node.func, ast.Name):
+                    if node.func.id in ("range", "zip", "enumerate", "reversed"):
+                        self.assertTrue(any(node is other for other in taken), (path, node.lineno))
+
     def test_raised_errors_are_made_on_the_spot(self):
         for path, node in nodes(ast.Raise):
             self.assertTrue(isinstance(node.exc, ast.Call) and isinstance(node.exc.func, ast.Name), path)

@@ -193,7 +193,8 @@ class MostTrees(unittest.TestCase):
     def test_trees_and_thin_parting_meet(self):
         chance = random.Random(20)
         webs = looks.NAMED_WEBS + looks.chance_webs(200, 60, 7, 25) + looks.chance_webs(201, 30, 16, 60)
-        webs += [fat_web(chance, chance.randint(2, 10), chance.randint(1, 5), chance.randint(0, 8)) for web in range(60)]
+        for turn in range(60):
+            webs.append(fat_web(chance, chance.randint(2, 10), chance.randint(1, 5), chance.randint(0, 8)))
         for web in webs:
             if web[0] > 1:
                 self.most(web)

@@ -1,0 +1,36 @@
+"""Ways of ties: each goes out of one of its ends; and lots that are crowded."""
+
+from fewforests.common import is_number
+from fewforests.lots import is_lot
+from fewforests.webs import ties_within
+
+
+def right_ways(web, d, thing):
+    """Whether anything is ways in which each point has at most d outs."""
+    return is_ways(web, thing) and max(outs_of(web, thing)) <= d
+
+
+def is_ways(web, thing):
+    """Whether anything is a tuple with one end of each tie."""
+    if not isinstance(thing, tuple) or len(thing) != len(web[1]):
+        return False
+    return all(is_number(point, a, b) and point in (a, b) for (a, b), point in zip(web[1], thing))
+
+
+def right_crowded(web, d, thing):
+    """Whether anything is a lot that is crowded for d: then there are no ways with at most d outs."""
+    return is_lot(web, thing) and ties_within(web, thing) > d * len(thing)
+
+
+def outs_of(web, ways):
+    """How many ties go out of each point."""
+    outs = [0] * web[0]
+    for point in ways:
+        outs[point] += 1
+    return tuple(outs)
+
+
+def led_to(web, ways, tie):
+    """The end to which a tie leads."""
+    a, b = web[1][tie]
+    return b if ways[tie] == a else a
