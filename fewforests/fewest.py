@@ -28,8 +28,13 @@ def fill_in_order(web, k, order):
 
 def lay_all(web, k):
     """("laid", laying), a whole laying in k forests, or ("full", lot), a lot that is full for k."""
-    laying = nothing_laid(web)
-    for tie in range(len(web[1])):
+    return lay_rest(web, k, nothing_laid(web))
+
+
+def lay_rest(web, k, laying):
+    """The same, begun with a laying in k forests: its left-out ties are laid one after another."""
+    left = [tie for tie, forest in enumerate(laying) if forest is None]
+    for tie in left:
         told = push_tie(web, k, laying, tie)
         if told[0] == "full":
             return told

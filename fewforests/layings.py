@@ -3,6 +3,8 @@
 from fewforests.common import is_number
 from fewforests.webs import ringless
 
+MOST_FORESTS = 120
+
 
 def right_laying(web, k, thing):
     """Whether anything is a laying of the web in k forests."""

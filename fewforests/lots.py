@@ -1,19 +1,12 @@
 """Lots: rising tuples of points."""
 
-from fewforests.common import is_number
+from fewforests.common import is_rising
 from fewforests.webs import ties_within
 
 
 def is_lot(web, thing):
     """Whether anything is a lot of the web's points."""
-    if not isinstance(thing, tuple) or len(thing) == 0:
-        return False
-    least = 0
-    for point in thing:
-        if not is_number(point, least, web[0] - 1):
-            return False
-        least = point + 1
-    return True
+    return is_rising(thing, web[0] - 1) and len(thing) > 0
 
 
 def right_full(web, k, thing):

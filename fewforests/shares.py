@@ -1,7 +1,8 @@
 """How ways share out the ties among the points, and the checker of even ways."""
 
+from fewforests.common import shares_of
 from fewforests.lots import is_lot
-from fewforests.ways import is_ways, led_to, outs_of
+from fewforests.ways import is_ways, outs_of
 
 
 def excess_above(web, ways, q):
@@ -14,19 +15,28 @@ def right_even(web, root, thing):
     if not isinstance(thing, tuple) or len(thing) != 2:
         return False
     ways, lots = thing
-    if not is_ways(web, ways) or root in ways or not isinstance(lots, tuple):
+    if not is_ways(web, ways) or root in ways:
         return False
-    if len(lots) != max(0, max(outs_of(web, ways)) - 1):
-        return False
-    return all(is_closed(web, root, ways, q, lot) for q, lot in enumerate(lots, start=1))
+    held = [(point, [end for end in tie if end != root]) for point, tie in zip(ways, web[1])]
+    return are_closed(web, held, lots)
 
 
-def is_closed(web, root, ways, q, thing):
-    """Whether anything is a lot of all points with more than q outs and some with q, left by ties to the root alone."""
+def are_closed(web, held, thing):
+    """Whether anything is a tuple with a closed lot for each q from 1 to the greatest share less one.
+
+    held tells what is shared out: for each thing its holder and all points that might hold it.
+    """
+    shares = shares_of(web[0], [holder for holder, group in held])
+    if not isinstance(thing, tuple) or len(thing) != max(0, max(shares) - 1):
+        return False
+    return all(is_closed(web, held, shares, q, lot) for q, lot in enumerate(thing, start=1))
+
+
+def is_closed(web, held, shares, q, thing):
+    """Whether anything is a lot of all points with shares above q and some with q, that holds their groups wholly."""
     if not is_lot(web, thing):
         return False
-    for point, outs in enumerate(outs_of(web, ways)):
-        if outs > q and point not in thing or outs < q and point in thing:
+    for point, share in enumerate(shares):
+        if share > q and point not in thing or share < q and point in thing:
             return False
-    ends = [led_to(web, ways, tie) for tie, point in enumerate(ways) if point in thing]
-    return all(end == root or end in thing for end in ends)
+    return all(point in thing for holder, group in held if holder in thing for point in group)

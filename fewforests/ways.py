@@ -1,6 +1,6 @@
 """Ways of ties: each goes out of one of its ends; and lots that are crowded."""
 
-from fewforests.common import is_number
+from fewforests.common import is_number, shares_of
 from fewforests.lots import is_lot
 from fewforests.webs import ties_within
 
@@ -24,13 +24,4 @@ def right_crowded(web, d, thing):
 
 def outs_of(web, ways):
     """How many ties go out of each point."""
-    outs = [0] * web[0]
-    for point in ways:
-        outs[point] += 1
-    return tuple(outs)
-
-
-def led_to(web, ways, tie):
-    """The end to which a tie leads."""
-    a, b = web[1][tie]
-    return b if ways[tie] == a else a
+    return tuple(shares_of(web[0], ways))

@@ -5,8 +5,8 @@ import inspect
 import random
 import unittest
 
-from fewforests import bounds, cheapest, fewest, layers, layings, lots, made, needed, outward, partings, plain, prices
-from fewforests import pushing, rows, shares, standing, trees, ways, webs
+from fewforests import bounds, brims, cheapest, drawing, even, fewest, layers, layings, lots, made, match, needed
+from fewforests import outward, partings, plain, prices, pushing, rooms, rows, shares, standing, trees, ways, webs
 from tests import looks
 
 INTERFACE = {
@@ -56,6 +56,19 @@ INTERFACE = {
     layers.split_layers: ["web", "d", "layers"],
     shares.excess_above: ["web", "ways", "q"],
     shares.right_even: ["web", "root", "thing"],
+    even.even_ways: ["web", "root"],
+    drawing.inner_web: ["web", "lot"],
+    drawing.drawn_web: ["web", "lot"],
+    drawing.glued_laying: ["web", "lot", "inside", "outside"],
+    rooms.is_tight: ["web", "k", "laying", "lot"],
+    rooms.right_rooms: ["web", "k", "laying", "thing"],
+    brims.rooms_of: ["web", "k", "laying"],
+    brims.brims_of: ["web", "k", "laying"],
+    match.Match: ["web", "trees"],
+    match.right_match: ["web", "cuts", "thing"],
+}
+METHODS = {
+    match.Match: {"cut": ["tie"], "state": [], "cuts": [], "joined": []},
 }
 
 
@@ -79,6 +92,9 @@ class Everywhere(unittest.TestCase):
     def test_arguments_are_named_as_in_the_interface(self):
         for function, names in INTERFACE.items():
             self.assertEqual(list(inspect.signature(function).parameters), names)
+        for kind, methods in METHODS.items():
+            for name, names in methods.items():
+                self.assertEqual(list(inspect.signature(vars(kind)[name]).parameters), ["self"] + names)
 
     def test_anything_is_left_as_it_was(self):
         web = (3, ((0, 1), (0, 1), (1, 2)))
@@ -100,6 +116,8 @@ class Everywhere(unittest.TestCase):
                 self.twice(layers.right_layers, web, 2, whole)
                 self.twice(shares.right_even, web, None, whole)
                 self.twice(shares.right_even, web, 2, whole)
+                self.twice(rooms.right_rooms, web, 2, (0, 1, 0), whole)
+                self.twice(match.right_match, web, (), whole)
 
     def test_the_same_question_is_answered_equally_again(self):
         chance = random.Random(2)
@@ -149,6 +167,30 @@ class Everywhere(unittest.TestCase):
         self.twice(shares.excess_above, web, told, 1)
         k, laying, lot = fewest.fewest_forests(web)
         self.twice(outward.rooted_ways, web, k, laying, web[0] - 1)
+        self.twice(even.even_ways, web, None)
+        self.twice(even.even_ways, web, web[0] - 1)
+        self.drawn_twice(web, k, laying)
+
+    def drawn_twice(self, web, k, laying):
+        for lot in ((0,), tuple(range(web[0])), (0, web[0] - 1) if web[0] > 1 else (0,)):
+            self.twice(drawing.inner_web, web, lot)
+            self.twice(drawing.drawn_web, web, lot)
+            inside = tuple(laying[number] for number in drawing.inner_web(web, lot)[1])
+            outside = tuple(laying[number] for number in drawing.drawn_web(web, lot)[1])
+            self.twice(drawing.glued_laying, web, lot, inside, outside)
+            self.twice(rooms.is_tight, web, k, laying, lot)
+        self.twice(brims.rooms_of, web, k, laying)
+        self.twice(brims.brims_of, web, k, laying)
+
+    def test_a_match_leaves_what_it_was_made_of_and_tells_equally_again(self):
+        web, trees = (3, ((0, 1), (1, 2), (0, 1), (0, 2), (1, 2))), (0, 0, 1, 1, None)
+        kept = copy.deepcopy((web, trees))
+        played = match.Match(web, trees)
+        for tie in (4, 1, 2):
+            played.cut(tie)
+            for told in (played.state, played.cuts, played.joined):
+                self.assertEqual(repr(told()), repr(told()))
+        self.assertEqual((web, trees), kept)
 
     def test_numbers_somewhat_beyond_the_bounds_raise_nothing(self):
         web = (2, ((0, 1),) * 2)
@@ -176,6 +218,10 @@ class Everywhere(unittest.TestCase):
             layers.right_layers(web, k, (0, 0))
             outward.rooted_ways(web, k, (0, 1), 1)
             shares.excess_above(web, (0, 1), k)
+            rooms.is_tight(web, k, (None, None), (0, 1))
+            rooms.right_rooms(web, k, (0, 1), ((), (((0, 1), ((2, 2),)),)))
+            brims.rooms_of((2, ()), k, ())
+            brims.brims_of((2, ()), k, ())
         made.copies_of(web, 0)
         for n in (-1, 0, 122, 130):
             rows.right_levels(web, 1, (0, None), 1, n, (1, 0))
@@ -189,6 +235,12 @@ class Everywhere(unittest.TestCase):
             standing.most_trees(greater)
             outward.fewest_outs(greater)
             cheapest.cheapest_ties(greater, 2, (1,) * len(greater[1]))
+            even.even_ways(greater, None)
+            even.even_ways(greater, 0)
+            drawing.inner_web(greater, (0, 1))
+            drawing.drawn_web(greater, (0, 1))
+            rooms.is_tight(greater, 125, fewest.fewest_forests(greater)[1], (0, 1))
+            match.Match(greater, (None,) * len(greater[1])).cut(0)
 
 
 if __name__ == "__main__":

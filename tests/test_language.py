@@ -138,6 +138,14 @@ class Language(unittest.TestCase):
                 if isinstance(node, ast.Attribute):
                     self.assertIn(node.attr, METHODS | own, path)
 
+    def test_no_name_is_a_method_and_an_attribute(self):
+        methods = {item.name for path, node in nodes(ast.ClassDef) for item in node.body if hasattr(item, "name")}
+        stored = {node.attr for path, node in nodes(ast.Attribute) if isinstance(node.ctx, ast.Store)}
+        self.assertEqual(methods & stored, set())
+        for name in stored | methods - {"__init__"}:
+            for value in ("", 0, [], {}, set(), b"", ()):
+                self.assertFalse(hasattr(value, name), name)
+
     def test_is_stands_with_none_true_and_false_only(self):
         for path, node in nodes(ast.Compare):
             for sign, right in zip(node.ops, node.comparators):
