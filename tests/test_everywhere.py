@@ -5,8 +5,9 @@ import inspect
 import random
 import unittest
 
-from fewforests import bounds, brims, cheapest, drawing, even, fewest, layers, layings, lots, made, match, needed
-from fewforests import outward, partings, plain, prices, pushing, rooms, rows, shares, standing, trees, ways, webs
+from fewforests import bounds, brims, cheapest, crowd, desk, drawing, even, fewest, layers, layings, lots, made, match
+from fewforests import needed, outward, partings, plain, prices, pushing, rooms, roots, rows, shares, standing, strong
+from fewforests import texts, thick, trees, ways, webs
 from tests import looks
 
 INTERFACE = {
@@ -66,9 +67,24 @@ INTERFACE = {
     brims.brims_of: ["web", "k", "laying"],
     match.Match: ["web", "trees"],
     match.right_match: ["web", "cuts", "thing"],
+    texts.web_text: ["web"],
+    texts.laying_text: ["laying"],
+    texts.read_web: ["thing"],
+    texts.read_laying: ["thing"],
+    desk.Desk: ["points", "k"],
+    thick.right_thick: ["web", "thing"],
+    thick.thickness_of: ["web"],
+    strong.right_strong: ["web", "thing"],
+    strong.strength_of: ["web"],
+    crowd.right_crowd: ["web", "thing"],
+    crowd.crowd_of: ["web"],
+    roots.right_roots: ["web", "k", "laying", "root", "thing"],
+    roots.even_roots: ["web", "k", "laying", "root"],
 }
 METHODS = {
     match.Match: {"cut": ["tie"], "state": [], "cuts": [], "joined": []},
+    desk.Desk: {"come": ["a", "b"], "go": ["tie"], "more": [], "fewer": [], "web": [], "laying": [], "forests": [],
+                "why": [], "moved": []},
 }
 
 
@@ -118,6 +134,13 @@ class Everywhere(unittest.TestCase):
                 self.twice(shares.right_even, web, 2, whole)
                 self.twice(rooms.right_rooms, web, 2, (0, 1, 0), whole)
                 self.twice(match.right_match, web, (), whole)
+                self.twice(texts.read_web, whole)
+                self.twice(texts.read_laying, whole)
+                self.twice(thick.right_thick, web, whole)
+                self.twice(strong.right_strong, web, whole)
+                self.twice(crowd.right_crowd, web, whole)
+                self.twice(roots.right_roots, web, 2, (0, 1, 0), None, whole)
+                self.twice(roots.right_roots, web, 2, (0, 1, 0), 2, whole)
 
     def test_the_same_question_is_answered_equally_again(self):
         chance = random.Random(2)
@@ -181,6 +204,15 @@ class Everywhere(unittest.TestCase):
             self.twice(rooms.is_tight, web, k, laying, lot)
         self.twice(brims.rooms_of, web, k, laying)
         self.twice(brims.brims_of, web, k, laying)
+        self.twice(roots.even_roots, web, k, laying, None)
+        self.twice(roots.even_roots, web, k, laying, 0)
+        self.twice(texts.web_text, web)
+        self.twice(texts.read_web, texts.web_text(web))
+        self.twice(texts.laying_text, laying)
+        self.twice(texts.read_laying, texts.laying_text(laying))
+        self.twice(thick.thickness_of, web)
+        self.twice(strong.strength_of, web)
+        self.twice(crowd.crowd_of, web)
 
     def test_a_match_leaves_what_it_was_made_of_and_tells_equally_again(self):
         web, trees = (3, ((0, 1), (1, 2), (0, 1), (0, 2), (1, 2))), (0, 0, 1, 1, None)
@@ -222,6 +254,9 @@ class Everywhere(unittest.TestCase):
             rooms.right_rooms(web, k, (0, 1), ((), (((0, 1), ((2, 2),)),)))
             brims.rooms_of((2, ()), k, ())
             brims.brims_of((2, ()), k, ())
+            roots.even_roots((2, ()), k, (), None)
+            roots.right_roots((2, ()), k, (), 0, ((), ()))
+            desk.Desk(41, k).laying()
         made.copies_of(web, 0)
         for n in (-1, 0, 122, 130):
             rows.right_levels(web, 1, (0, None), 1, n, (1, 0))
@@ -241,6 +276,14 @@ class Everywhere(unittest.TestCase):
             drawing.drawn_web(greater, (0, 1))
             rooms.is_tight(greater, 125, fewest.fewest_forests(greater)[1], (0, 1))
             match.Match(greater, (None,) * len(greater[1])).cut(0)
+            texts.web_text(greater)
+            texts.laying_text(fewest.fewest_forests(greater)[1] + (120, 130))
+            thick.right_thick(greater, (0, 1, (), (0, 1)))
+            strong.right_strong(greater, (0, 1, (), (0, 1)))
+            crowd.right_crowd(greater, (0, 1, (), (0, 1)))
+        wide = desk.Desk(42, 121)
+        self.assertEqual(wide.come(41, 0), ((0, 0),))
+        wide.fewer()
 
 
 if __name__ == "__main__":
